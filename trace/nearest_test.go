@@ -1,6 +1,7 @@
 package trace
 
 import (
+	"maps"
 	"math/big"
 	"slices"
 	"testing"
@@ -291,7 +292,10 @@ func TestNearestOfCornersInARow(t *testing.T) {
 func TestNearestOfKindsOfLists(t *testing.T) {
 	r, hits := source(12), 0
 	for _, n := range []int{1, 2, 5, 13} {
-		for _, l := range kindsOfLists(n) {
+		lists := kindsOfLists(n)
+		// Sorted, so that each list is given the same rays in each run.
+		for _, name := range slices.Sorted(maps.Keys(lists)) {
+			l := lists[name]
 			trees := treesOver(l)
 			for i := range 12 {
 				if isAsTried(t, trees, l, anyPoint(r), anyPoint(r)) {

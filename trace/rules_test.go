@@ -270,8 +270,8 @@ func TestAnswersAreCanonical(t *testing.T) {
 
 // Answers hang on the numbers alone, not on how they are written; also R5: an empty list is a nil one.
 func TestWritingsAreOfNoMoment(t *testing.T) {
-	r := source(62)
 	for name, call := range calls() {
+		r := source(62)
 		for i, g := range given() {
 			if i%9 > 0 {
 				continue
